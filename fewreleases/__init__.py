@@ -1,0 +1,1 @@
+"""Fewreleases: upgrading services one after another with the fewest releases."""

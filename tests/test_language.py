@@ -1,0 +1,129 @@
+"""Checks of the package's files against the rules of the language that a program can see."""
+
+import ast
+import pathlib
+import re
+import unittest
+import warnings
+
+ROOT = pathlib.Path(__file__).resolve().parent.parent
+PACKAGE = ROOT / 'fewreleases'
+
+BARRED_WORDS = ('type typing typing_extensions enum Enum IntEnum StrEnum Flag IntFlag Generic Protocol ABC ABCMeta '
+                'namedtuple NamedTuple TypedDict TYPE_CHECKING abstractmethod').split()
+BARRED_PARTS = ('dataclass', 'overload', 'contextmanager')
+CALLED_BUILTINS = ('len range enumerate zip min max sum abs sorted reversed int str bool list tuple dict set '
+                   'isinstance ord repr any all divmod super iter next').split()
+WHOLE_LISTS = ('any', 'all', 'min', 'max', 'sum', 'sorted')
+SPECIAL_METHODS = ('__init__', '__eq__', '__repr__', '__str__', '__len__')
+BARRED_NODES = (ast.Global, ast.AsyncFunctionDef, ast.AsyncFor, ast.AsyncWith, ast.Await, ast.Import, ast.Div)
+
+INTERFACE = {
+    'errors': ('FewError BadServices BadChannels NoChannel NoService NoStep NotSteps HasCycle BadSplit NotForced '
+               'NoNumber BadCosts Fault NothingToUndo BadText BadLine').split(),
+    'fields': 'is_fields is_reader is_format accepts widened'.split(),
+    'systems': 'System channel_of kind_of exchanged'.split(),
+}
+
+
+def files():
+    return sorted(PACKAGE.glob('*.py'))
+
+
+def trees():
+    return [(path, ast.parse(path.read_text(encoding='utf-8'))) for path in files()]
+
+
+def nodes(kind):
+    return [(path, node) for path, tree in trees() for node in ast.walk(tree) if isinstance(node, kind)]
+
+
+class FilesTest(unittest.TestCase):
+
+    def test_only_plain_files(self):
+        for path in PACKAGE.iterdir():
+            if path.name != '__pycache__':
+                self.assertRegex(path.name, r'^(__init__|[a-z][a-z0-9_]*)\.py$')
+        self.assertIn('__init__.py', [path.name for path in files()])
+
+    def test_sizes_and_characters(self):
+        for path in files():
+            text = path.read_text(encoding='utf-8')
+            self.assertRegex(text, r'\A[ -~\n]*\Z', path)
+            self.assertNotIn('%', text, path)
+            lines = text.split('\n')
+            self.assertLessEqual(len(lines), 399, path)
+            self.assertLessEqual(max(map(len, lines)), 120, path)
+
+    def test_words(self):
+        for path in files():
+            text = path.read_text(encoding='utf-8')
+            self.assertEqual([word for word in re.findall(r'\w+', text) if word in BARRED_WORDS], [], path)
+            self.assertEqual([part for part in BARRED_PARTS if part in text], [], path)
+
+    def test_no_warnings(self):
+        for path in files():
+            with warnings.catch_warnings():
+                warnings.simplefilter('error')
+                compile(path.read_text(encoding='utf-8'), str(path), 'exec')
+
+
+class CodeTest(unittest.TestCase):
+
+    def test_interface_is_defined_in_its_file(self):
+        for path, tree in trees():
+            defined = [node.name for node in tree.body if isinstance(node, (ast.FunctionDef, ast.ClassDef))]
+            for name in INTERFACE.get(path.stem, []):
+                self.assertIn(name, defined)
+        self.assertLessEqual(set(INTERFACE), {path.stem for path in files()})
+
+    def test_module_level(self):
+        allowed = (ast.ImportFrom, ast.FunctionDef, ast.ClassDef, ast.Assign)
+        for path, tree in trees():
+            self.assertTrue(ast.get_docstring(tree), path)
+            for node in tree.body[1:]:
+                self.assertIsInstance(node, allowed, path)
+
+    def test_imports(self):
+        for path, node in nodes(ast.ImportFrom):
+            self.assertEqual(node.level, 0, path)
+            self.assertTrue(node.module.startswith('fewreleases.'), path)
+            self.assertNotIn('*', [alias.name for alias in node.names], path)
+
+    def test_no_barred_statements(self):
+        self.assertEqual(nodes(BARRED_NODES), [])
+
+    def test_functions(self):
+        for path, node in nodes(ast.FunctionDef):
+            self.assertLessEqual(node.end_lineno - node.lineno + 1, 40, (path, node.name))
+            self.assertEqual(node.decorator_list, [], (path, node.name))
+            self.assertEqual(node.args.posonlyargs, [], (path, node.name))
+            if node.name.startswith('_'):
+                self.assertIn(node.name, SPECIAL_METHODS, path)
+
+    def test_names(self):
+        for path, node in nodes((ast.Name, ast.arg, ast.Attribute)):
+            name = getattr(node, 'id', None) or getattr(node, 'arg', None) or node.attr
+            if name not in SPECIAL_METHODS:
+                self.assertRegex(name, r'^[A-Za-z][A-Za-z0-9_]*$', path)
+
+    def test_called_builtins(self):
+        known = dir(__builtins__) if not isinstance(__builtins__, dict) else list(__builtins__)
+        for path, node in nodes(ast.Name):
+            if node.id in known and not node.id.endswith('Error'):
+                self.assertIn(node.id, CALLED_BUILTINS, (path, node.lineno))
+
+    def test_whole_lists_beside_eq(self):
+        for path, node in nodes(ast.Call):
+            if isinstance(node.func, ast.Name) and node.func.id in WHOLE_LISTS:
+                self.assertNotIn(ast.GeneratorExp, [type(arg) for arg in node.args], (path, node.lineno))
+
+    def test_is_only_with_constants(self):
+        for path, node in nodes(ast.Compare):
+            for sign, right in zip(node.ops, node.comparators):
+                if isinstance(sign, (ast.Is, ast.IsNot)):
+                    self.assertIsInstance(right, ast.Constant, (path, node.lineno))
+
+
+if __name__ == '__main__':
+    unittest.main()
