@@ -51,7 +51,11 @@ def channel_of(system, name):
 
 def kind_of(system, name):
     """Return the kind of the channel with this name."""
-    channel = channel_of(system, name)
+    return channel_kind(channel_of(system, name))
+
+
+def channel_kind(channel):
+    """Return the kind of a channel."""
     old = channel[3]
     new = channel[4]
     old_accepts_new = accepts(old[1:], new[0])

@@ -1,6 +1,7 @@
 """Checks of the package's files against the rules of the language that a program can see."""
 
 import ast
+import builtins
 import pathlib
 import re
 import unittest
@@ -23,7 +24,24 @@ INTERFACE = {
                'NoNumber BadCosts Fault NothingToUndo BadText BadLine').split(),
     'fields': 'is_fields is_reader is_format accepts widened'.split(),
     'systems': 'System channel_of kind_of exchanged'.split(),
+    'steps': 'all_steps steps_of owner_of order_pairs'.split(),
+    'moments': 'formats_at refusals refusals_during'.split(),
+    'plans': 'is_release is_plan first_fault is_safe backwards'.split(),
+    'graph': 'edges forced find_cycle is_cycle safe_order'.split(),
 }
+ARGUMENTS = {
+    'is_fields': 'value', 'is_reader': 'value', 'is_format': 'value', 'accepts': 'reader written',
+    'widened': 'reader other', 'channel_of': 'system name', 'kind_of': 'system name', 'exchanged': 'system',
+    'all_steps': 'system', 'steps_of': 'system service', 'owner_of': 'system step', 'order_pairs': 'system',
+    'formats_at': 'system done', 'refusals': 'system done', 'refusals_during': 'system done release',
+    'is_release': 'system value', 'is_plan': 'system value', 'first_fault': 'system plan', 'is_safe': 'system plan',
+    'backwards': 'system plan', 'edges': 'system', 'forced': 'system', 'find_cycle': 'system without',
+    'is_cycle': 'system value', 'safe_order': 'system without',
+}
+CALLED_METHODS = ('append clear copy count endswith extend find get index insert isalnum isalpha isdigit islower '
+                  'isspace isupper items join keys ljust lower lstrip partition pop remove replace reverse rfind '
+                  'rjust rpartition rsplit rstrip setdefault split splitlines startswith strip update upper values '
+                  'zfill bit_length add discard __init__').split()
 
 
 def files():
@@ -77,6 +95,48 @@ class CodeTest(unittest.TestCase):
                 self.assertIn(name, defined)
         self.assertLessEqual(set(INTERFACE), {path.stem for path in files()})
 
+    def test_arguments_of_the_interface(self):
+        functions = {node.name: node for path, tree in trees() for node in tree.body
+                     if isinstance(node, ast.FunctionDef) and node.name in INTERFACE.get(path.stem, [])}
+        self.assertEqual(set(functions), set(ARGUMENTS))
+        for name, arguments in ARGUMENTS.items():
+            self.assertEqual([node.arg for node in functions[name].args.args], arguments.split(), name)
+
+    def test_called_methods(self):
+        for path, node in nodes(ast.Call):
+            if isinstance(node.func, ast.Attribute):
+                self.assertIn(node.func.attr, CALLED_METHODS, (path, node.lineno))
+
+    def test_local_names(self):
+        known = set(vars(builtins))
+        for path, tree in trees():
+            imported = {alias.asname or alias.name for node in ast.walk(tree) if isinstance(node, ast.ImportFrom)
+                        for alias in node.names}
+            classes = {node.name for node in ast.walk(tree) if isinstance(node, ast.ClassDef)}
+            bound = [node.arg for node in ast.walk(tree) if isinstance(node, ast.arg)]
+            bound += [node.id for node in ast.walk(tree) if isinstance(node, ast.Name)
+                      and isinstance(node.ctx, ast.Store)]
+            defined = [node.name for node in tree.body if isinstance(node, (ast.FunctionDef, ast.ClassDef))]
+            self.assertEqual(set(bound) & (imported | classes | known), set(), path)
+            self.assertEqual(set(defined) & (imported | known), set(), path)
+            self.assertEqual(len(set(defined)), len(defined), path)
+
+    def test_no_round_of_imports(self):
+        needs = {path.stem: {node.module.split('.')[1] for node in ast.walk(tree) if isinstance(node, ast.ImportFrom)}
+                 for path, tree in trees()}
+        while needs:
+            free = [stem for stem in needs if not needs[stem] & set(needs)]
+            self.assertNotEqual(free, [], sorted(needs))
+            for stem in free:
+                del needs[stem]
+
+    def test_imports_name_the_file_that_defines_the_name(self):
+        defined = {path.stem: {node.name for node in tree.body if isinstance(node, (ast.FunctionDef, ast.ClassDef))}
+                   for path, tree in trees()}
+        for path, node in nodes(ast.ImportFrom):
+            for alias in node.names:
+                self.assertIn(alias.name, defined[node.module.split('.')[1]], path)
+
     def test_module_level(self):
         allowed = (ast.ImportFrom, ast.FunctionDef, ast.ClassDef, ast.Assign)
         for path, tree in trees():
@@ -108,7 +168,7 @@ class CodeTest(unittest.TestCase):
                 self.assertRegex(name, r'^[A-Za-z][A-Za-z0-9_]*$', path)
 
     def test_called_builtins(self):
-        known = dir(__builtins__) if not isinstance(__builtins__, dict) else list(__builtins__)
+        known = vars(builtins)
         for path, node in nodes(ast.Name):
             if node.id in known and not node.id.endswith('Error'):
                 self.assertIn(node.id, CALLED_BUILTINS, (path, node.lineno))

@@ -1,0 +1,71 @@
+"""What is written, read and refused when some steps are done."""
+
+from fewreleases.errors import NotSteps
+from fewreleases.fields import accepts, widened
+from fewreleases.steps import all_steps, is_steps_among
+
+
+def formats_at(system, done):
+    """Return a tuple with (name, written, reader) for each channel."""
+    check_done(system, done)
+    return formats_with(system, done)
+
+
+def refusals(system, done):
+    """Return the names of the channels whose reader does not accept what is written."""
+    check_done(system, done)
+    return refusals_between(system, done, done)
+
+
+def refusals_during(system, done, release):
+    """Return the names of the channels on which a message is refused during the release."""
+    check_done(system, done)
+    return refusals_between(system, done, done + release[1])
+
+
+def check_done(system, done):
+    """Raise NotSteps if any value is not steps that are done."""
+    if not is_steps_among(all_steps(system), done):
+        raise NotSteps(done)
+
+
+def refusals_between(system, before, after):
+    """Return the names of the channels that refuse a message while two versions run side by side.
+
+    The two versions have the steps before and the steps after done. These are
+    tuples of steps in any order. A service that does nothing in between has
+    two equal versions.
+    """
+    early = formats_with(system, before)
+    late = formats_with(system, after)
+    return tuple([row[0] for row, other in zip(early, late) if is_refused(row, other)])
+
+
+def is_refused(row, other):
+    """Return whether one of two versions of a channel refuses what one of them writes."""
+    readers = (row[2], other[2])
+    writings = (row[1], other[1])
+    return not all([accepts(reader, written) for reader in readers for written in writings])
+
+
+def formats_with(system, steps):
+    """Return a tuple with (name, written, reader) for each channel, with these steps done."""
+    done = {step: True for step in steps}
+    return tuple([(channel[0], written_with(channel, done), reader_with(channel, done)) for channel in system.channels])
+
+
+def written_with(channel, done):
+    """Return the fields that are written on a channel, by a dict of the steps that are done."""
+    return channel[4][0] if (channel[0], "switch") in done else channel[3][0]
+
+
+def reader_with(channel, done):
+    """Return the reader that is used on a channel, by a dict of the steps that are done."""
+    name = channel[0]
+    old = channel[3][1:]
+    new = channel[4][1:]
+    if (name, "read") in done or (name, "narrow") in done:
+        return new
+    if (name, "widen") in done:
+        return widened(old, new)
+    return old
