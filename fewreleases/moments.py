@@ -2,7 +2,8 @@
 
 from fewreleases.errors import NotSteps
 from fewreleases.fields import accepts, widened
-from fewreleases.steps import all_steps, is_steps_among
+from fewreleases.names import is_some_of
+from fewreleases.steps import all_steps
 
 
 def formats_at(system, done):
@@ -25,7 +26,7 @@ def refusals_during(system, done, release):
 
 def check_done(system, done):
     """Raise NotSteps if any value is not steps that are done."""
-    if not is_steps_among(all_steps(system), done):
+    if not is_some_of(all_steps(system), done):
         raise NotSteps(done)
 
 

@@ -1,4 +1,4 @@
-"""Names and ascending tuples of names."""
+"""Names and ascending tuples."""
 
 LETTERS = "abcdefghijklmnopqrstuvwxyz"
 LONGEST_NAME = 8
@@ -22,3 +22,10 @@ def is_names(value, fewest, most):
     if not isinstance(value, tuple) or not fewest <= len(value) <= most:
         return False
     return all([is_name(part) for part in value]) and is_ascending(value)
+
+
+def is_some_of(known, value):
+    """Return whether any value is an ascending tuple of some of these known strings or steps."""
+    if not isinstance(value, tuple):
+        return False
+    return all([part in known for part in value]) and is_ascending(value)

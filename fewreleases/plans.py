@@ -1,7 +1,8 @@
 """Releases and plans, and whether they lose messages."""
 
 from fewreleases.moments import refusals_between
-from fewreleases.steps import all_steps, is_steps_among, steps_of
+from fewreleases.names import is_some_of
+from fewreleases.steps import all_steps, steps_of
 
 BACKWARDS_WORDS = {"read": "read", "switch": "switch", "widen": "narrow", "narrow": "widen"}
 
@@ -13,7 +14,7 @@ def is_release(system, value):
     service, steps = value
     if service not in system.services or steps == ():
         return False
-    return is_steps_among(steps_of(system, service), steps)
+    return is_some_of(steps_of(system, service), steps)
 
 
 def is_plan(system, value):

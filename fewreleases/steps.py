@@ -1,12 +1,15 @@
-"""The steps of a system, their owners, and the order in which they must be done."""
+"""The steps of a system, their owners, and the order in which they must be done.
+
+A chain is a tuple of (service, step): steps of one channel with their owners,
+each of which must be done in an earlier release than the next one. A step
+that no order pair has is a chain of its own.
+"""
 
 from fewreleases.errors import NoService, NoStep
-from fewreleases.names import is_ascending
 from fewreleases.systems import channel_kind
 
 # The steps on a channel that must be done in this order, each in an earlier release than the next.
 ORDERED_WORDS = {
-    "free": (),
     "reader first": ("read", "switch"),
     "writer first": ("switch", "read"),
     "split": ("widen", "switch", "narrow"),
@@ -15,65 +18,67 @@ ORDERED_WORDS = {
 
 def all_steps(system):
     """Return the ascending tuple of all steps."""
-    return tuple(sorted([step for step, owner in owned_steps(system)]))
+    return tuple(sorted([step for service, step in owned_steps(system)]))
 
 
 def steps_of(system, service):
     """Return the ascending tuple of the steps that a service owns."""
     if service not in system.services:
         raise NoService(service)
-    return tuple(sorted([step for step, owner in owned_steps(system) if owner == service]))
+    return tuple(sorted([step for owner, step in owned_steps(system) if owner == service]))
 
 
 def owner_of(system, step):
     """Return the service that owns a step."""
     # Compared one by one, because the step may be a value that no dict takes as a key.
-    for known, owner in owned_steps(system):
+    for service, known in owned_steps(system):
         if known == step:
-            return owner
+            return service
     raise NoStep(step)
 
 
 def order_pairs(system):
     """Return the ascending tuple of all order pairs."""
-    return tuple(sorted([pair for channel in system.channels for pair in channel_pairs(channel)]))
-
-
-def is_steps_among(steps, value):
-    """Return whether any value is an ascending tuple of some of these steps."""
-    if not isinstance(value, tuple):
-        return False
-    return all([part in steps for part in value]) and is_ascending(value)
+    return tuple(sorted([(first[1], second[1]) for first, second in neighbours(all_chains(system))]))
 
 
 def owned_steps(system):
-    """Return the list of (step, owner) for all steps, channel by channel."""
+    """Return the list of (service, step) for all steps with their owners."""
+    return parts_of(all_chains(system))
+
+
+def all_chains(system):
+    """Return the list of all chains."""
     return [
-        ((channel[0], word), word_owner(channel, word))
+        tuple([(word_owner(channel, word), (channel[0], word)) for word in words])
         for channel in system.channels
-        for word in channel_words(channel)
+        for words in channel_words(channel)
     ]
 
 
+def parts_of(chains):
+    """Return the list of the (service, step) of all these chains."""
+    return [part for chain in chains for part in chain]
+
+
+def neighbours(chains):
+    """Return the list of the pairs of (service, step) that follow each other in a chain."""
+    return [pair for chain in chains for pair in zip(chain, chain[1:])]
+
+
 def channel_words(channel):
-    """Return the list of the words of the steps of a channel."""
+    """Return the list of the words of the steps of a channel, a tuple for each chain."""
+    kind = channel_kind(channel)
+    # Where not both readers accept both writings, neither the fields nor the readers are equal.
+    if kind != "free":
+        return [ORDERED_WORDS[kind]]
     old = channel[3]
     new = channel[4]
-    words = []
-    if old[0] != new[0]:
-        words.append("switch")
-    if old[1:] != new[1:]:
-        words.extend(["widen", "narrow"] if channel_kind(channel) == "split" else ["read"])
-    return words
+    switches = [("switch",)] if old[0] != new[0] else []
+    reads = [("read",)] if old[1:] != new[1:] else []
+    return switches + reads
 
 
 def word_owner(channel, word):
     """Return the service that owns the step with this word on a channel."""
     return channel[1] if word == "switch" else channel[2]
-
-
-def channel_pairs(channel):
-    """Return the list of the order pairs of a channel."""
-    name = channel[0]
-    words = ORDERED_WORDS[channel_kind(channel)]
-    return [((name, first), (name, second)) for first, second in zip(words, words[1:])]

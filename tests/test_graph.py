@@ -1,5 +1,4 @@
 import itertools
-import random
 import unittest
 
 from fewreleases.errors import HasCycle
@@ -7,44 +6,10 @@ from fewreleases.graph import edges, find_cycle, forced, is_cycle, safe_order
 from fewreleases.plans import is_safe
 from fewreleases.systems import System
 from tests import models
+from tests.drawn import graph, random_graphs, ring_of, small_graphs
 from tests.models import (TWELVE, all_cycles, all_plans, big_system, one_channel_systems, releases_of, some_of,
                           system_of, two_channel_systems)
 from tests.samples import NAMED, NEW, OLD, TITLED, copied, nested, odd_values, paths, replaced, wraps
-
-NAMES = [first + second for first in 'abcdefghijkl' for second in 'abcdefghijkl']
-
-
-def graph(services, pairs):
-    """Return a system that has these edges, by channels of both kinds that have an order."""
-    rows = []
-    for at, (start, end) in enumerate(sorted(pairs)):
-        row = (end, start, 'reader') if at % 2 == 0 else (start, end, 'writer')
-        rows.append((NAMES[at], *row))
-    return system_of(services, *rows)
-
-
-def ring_of(services):
-    """Return a system whose only cycle leads through all services, in their order."""
-    return graph(services, zip(services, services[1:] + services[:1]))
-
-
-def small_graphs():
-    """Return a system for each set of edges between three services."""
-    pairs = list(itertools.permutations('abc', 2))
-    return [graph('abc', some) for some in some_of(pairs)]
-
-
-def random_graphs():
-    """Return systems of more services, the same ones at each run."""
-    source = random.Random(5)
-    found = []
-    for size in (4, 5, 6, 8, 12):
-        services = TWELVE[:size]
-        pairs = list(itertools.permutations(services, 2))
-        for many in (size - 1, size, size + 3, min(2 * size, 40)):
-            found.extend(graph(services, source.sample(pairs, min(many, len(pairs)))) for time in range(6))
-    return found
-
 
 def reaches_itself(system, without):
     """Say whether some service not in without is reached from itself along the edges, by another way than the package."""

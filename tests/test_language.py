@@ -28,6 +28,10 @@ INTERFACE = {
     'moments': 'formats_at refusals refusals_during'.split(),
     'plans': 'is_release is_plan first_fault is_safe backwards'.split(),
     'graph': 'edges forced find_cycle is_cycle safe_order'.split(),
+    'making': 'plan_with'.split(),
+    'fewest': 'fewest_releases fewest_split fewest_plan count_splits split_at ever_split always_split'.split(),
+    'needed': 'needed_cycles shows_needed'.split(),
+    'costs': 'cheapest_split least_cost'.split(),
 }
 ARGUMENTS = {
     'is_fields': 'value', 'is_reader': 'value', 'is_format': 'value', 'accepts': 'reader written',
@@ -36,7 +40,10 @@ ARGUMENTS = {
     'formats_at': 'system done', 'refusals': 'system done', 'refusals_during': 'system done release',
     'is_release': 'system value', 'is_plan': 'system value', 'first_fault': 'system plan', 'is_safe': 'system plan',
     'backwards': 'system plan', 'edges': 'system', 'forced': 'system', 'find_cycle': 'system without',
-    'is_cycle': 'system value', 'safe_order': 'system without',
+    'is_cycle': 'system value', 'safe_order': 'system without', 'plan_with': 'system split',
+    'fewest_releases': 'system', 'fewest_split': 'system', 'fewest_plan': 'system', 'count_splits': 'system',
+    'split_at': 'system number', 'ever_split': 'system', 'always_split': 'system', 'needed_cycles': 'system',
+    'shows_needed': 'system value', 'cheapest_split': 'system costs', 'least_cost': 'system costs',
 }
 CALLED_METHODS = ('append clear copy count endswith extend find get index insert isalnum isalpha isdigit islower '
                   'isspace isupper items join keys ljust lower lstrip partition pop remove replace reverse rfind '
@@ -54,6 +61,10 @@ def trees():
 
 def nodes(kind):
     return [(path, node) for path, tree in trees() for node in ast.walk(tree) if isinstance(node, kind)]
+
+
+def own_methods():
+    return [node.name for path, owner in nodes(ast.ClassDef) for node in owner.body if isinstance(node, ast.FunctionDef)]
 
 
 class FilesTest(unittest.TestCase):
@@ -105,7 +116,13 @@ class CodeTest(unittest.TestCase):
     def test_called_methods(self):
         for path, node in nodes(ast.Call):
             if isinstance(node.func, ast.Attribute):
-                self.assertIn(node.func.attr, CALLED_METHODS, (path, node.lineno))
+                self.assertIn(node.func.attr, CALLED_METHODS + own_methods(), (path, node.lineno))
+
+    def test_methods_and_attributes(self):
+        assigned = [node.attr for path, node in nodes(ast.Attribute) if isinstance(node.ctx, ast.Store)]
+        self.assertEqual(set(assigned) & set(own_methods()), set())
+        for path, node in nodes(ast.Attribute):
+            self.assertIn(node.attr, assigned + CALLED_METHODS + own_methods(), (path, node.lineno))
 
     def test_local_names(self):
         known = set(vars(builtins))
