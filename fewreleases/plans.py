@@ -1,39 +1,50 @@
 """Releases and plans, and whether they lose messages."""
 
-from fewreleases.moments import refusals_between
+from fewreleases.moments import least_refusal
 from fewreleases.names import is_some_of
-from fewreleases.steps import all_steps, steps_of
+from fewreleases.steps import all_chains, steps_by_service
 
 BACKWARDS_WORDS = {"read": "read", "switch": "switch", "widen": "narrow", "narrow": "widen"}
 
 
 def is_release(system, value):
     """Return whether any value is a release of the system."""
-    if not isinstance(value, tuple) or len(value) != 2:
-        return False
-    service, steps = value
-    if service not in system.services or steps == ():
-        return False
-    return is_some_of(steps_of(system, service), steps)
+    return is_release_by(steps_by_service(system.services, all_chains(system)), value)
 
 
 def is_plan(system, value):
     """Return whether any value is a plan of the system, safe or not."""
-    if not isinstance(value, tuple) or not all([is_release(system, part) for part in value]):
+    own = steps_by_service(system.services, all_chains(system))
+    if not isinstance(value, tuple) or not all([is_release_by(own, part) for part in value]):
         return False
-    steps = [step for service, some in value for step in some]
-    return tuple(sorted(steps)) == all_steps(system)
+    return has_each_once(own, value)
+
+
+def is_release_by(own, value):
+    """Return whether any value is a release, by a dict of the steps of each service."""
+    if not isinstance(value, tuple) or len(value) != 2:
+        return False
+    service, steps = value
+    # Only a string is looked up in the dict: another value may be none that a dict takes as a key.
+    if not isinstance(service, str) or service not in own or steps == ():
+        return False
+    return is_some_of(own[service], steps)
+
+
+def has_each_once(own, releases):
+    """Return whether the releases have each step exactly once, by a dict of the steps of each service."""
+    wanted = sorted([step for service in own for step in own[service]])
+    return sorted([step for service, steps in releases for step in steps]) == wanted
 
 
 def first_fault(system, plan):
     """Return (index, name) of the first release and least channel that refuse a message, or None."""
     done = ()
-    for index, release in enumerate(plan):
-        behind = done + release[1]
-        names = refusals_between(system, done, behind)
-        if names:
-            return (index, names[0])
-        done = behind
+    for index, (service, steps) in enumerate(plan):
+        name = least_refusal(system, done, steps)
+        if name is not None:
+            return (index, name)
+        done = done + steps
     return None
 
 

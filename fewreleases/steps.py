@@ -56,6 +56,18 @@ def all_chains(system):
     ]
 
 
+def chains_left(chains, done):
+    """Return the list of what is left of the chains, by a list of the steps that are done."""
+    rest = [tuple([part for part in chain if part[1] not in done]) for chain in chains]
+    return [chain for chain in rest if chain]
+
+
+def steps_by_service(services, chains):
+    """Return a dict that has, for each of the services, the ascending tuple of its steps of the chains."""
+    parts = sorted(parts_of(chains))
+    return {service: tuple([step for owner, step in parts if owner == service]) for service in services}
+
+
 def parts_of(chains):
     """Return the list of the (service, step) of all these chains."""
     return [part for chain in chains for part in chain]

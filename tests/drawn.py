@@ -4,6 +4,7 @@ import itertools
 import random
 
 from fewreleases.systems import System
+from tests import models
 from tests.models import CHANGES, TWELVE, some_of, system_of
 
 
@@ -80,3 +81,19 @@ def drawn_systems(seed, many, most_services, most_channels):
 def drawn_costs(system, source, most):
     """Return costs from 1 to most for the services of a system."""
     return tuple((service, source.randint(1, most)) for service in system.services)
+
+
+def drawn_plan(system, source, safe):
+    """Return a plan, safe or perhaps not, that does a few of the steps at a time."""
+    owner = models.owners(system)
+    pairs = models.pairs(system)
+    left = sorted(owner)
+    plan = []
+    while left:
+        free = [step for step in left if not safe or not any((other, step) in pairs for other in left)]
+        service = owner[source.choice(free)]
+        own = [step for step in free if owner[step] == service]
+        steps = tuple(sorted(source.sample(own, source.randint(1, len(own)))))
+        plan.append((service, steps))
+        left = [step for step in left if step not in steps]
+    return tuple(plan)

@@ -50,6 +50,12 @@ def two_channel_systems():
             for sender, other in itertools.product('ab', repeat=2)]
 
 
+def four_kinds():
+    """Return a system with a channel of each kind, one of them from a service to itself."""
+    return system_of('abc', ('v', 'a', 'c', 'both'), ('w', 'c', 'c', 'reader'), ('x', 'a', 'b', 'split'),
+                     ('y', 'b', 'a', 'writer'))
+
+
 def big_system():
     """Return a system of 12 services and 40 channels, self-channels too, of all changes."""
     names = [first + second for first in 'abcd' for second in 'abcdefghij']

@@ -32,6 +32,10 @@ INTERFACE = {
     'fewest': 'fewest_releases fewest_split fewest_plan count_splits split_at ever_split always_split'.split(),
     'needed': 'needed_cycles shows_needed'.split(),
     'costs': 'cheapest_split least_cost'.split(),
+    'waves': 'fewest_waves wave_plan is_wave_plan waves_of'.split(),
+    'rollout': 'Rollout'.split(),
+    'texts': 'show_system read_system show_plan read_plan'.split(),
+    'desk': 'Desk'.split(),
 }
 ARGUMENTS = {
     'is_fields': 'value', 'is_reader': 'value', 'is_format': 'value', 'accepts': 'reader written',
@@ -44,6 +48,15 @@ ARGUMENTS = {
     'fewest_releases': 'system', 'fewest_split': 'system', 'fewest_plan': 'system', 'count_splits': 'system',
     'split_at': 'system number', 'ever_split': 'system', 'always_split': 'system', 'needed_cycles': 'system',
     'shows_needed': 'system value', 'cheapest_split': 'system costs', 'least_cost': 'system costs',
+    'fewest_waves': 'system', 'wave_plan': 'system', 'is_wave_plan': 'system value', 'waves_of': 'system plan',
+    'show_system': 'system', 'read_system': 'text', 'show_plan': 'plan', 'read_plan': 'system text',
+}
+METHODS = {
+    'System': {'__init__': 'services channels', '__eq__': 'other'},
+    'Rollout': {'__init__': 'system', 'release': 'service steps', 'undo': '', 'releases': '', 'done_steps': '',
+                'left_steps': '', 'ready_steps': 'service', 'fewest_left': '', 'finish': '', 'copy': '',
+                '__eq__': 'other', '__len__': ''},
+    'Desk': {'__init__': 'text', 'say': 'line'},
 }
 CALLED_METHODS = ('append clear copy count endswith extend find get index insert isalnum isalpha isdigit islower '
                   'isspace isupper items join keys ljust lower lstrip partition pop remove replace reverse rfind '
@@ -113,6 +126,14 @@ class CodeTest(unittest.TestCase):
         for name, arguments in ARGUMENTS.items():
             self.assertEqual([node.arg for node in functions[name].args.args], arguments.split(), name)
 
+    def test_methods_of_the_interface(self):
+        classes = {node.name: node for path, node in nodes(ast.ClassDef)}
+        for name, methods in METHODS.items():
+            found = {node.name: [part.arg for part in node.args.args] for node in classes[name].body
+                     if isinstance(node, ast.FunctionDef)}
+            for method, arguments in methods.items():
+                self.assertEqual(found[method], ['self', *arguments.split()], (name, method))
+
     def test_called_methods(self):
         for path, node in nodes(ast.Call):
             if isinstance(node.func, ast.Attribute):
@@ -150,6 +171,8 @@ class CodeTest(unittest.TestCase):
     def test_imports_name_the_file_that_defines_the_name(self):
         defined = {path.stem: {node.name for node in tree.body if isinstance(node, (ast.FunctionDef, ast.ClassDef))}
                    for path, tree in trees()}
+        for path, tree in trees():
+            defined[path.stem].update(node.targets[0].id for node in tree.body if isinstance(node, ast.Assign))
         for path, node in nodes(ast.ImportFrom):
             for alias in node.names:
                 self.assertIn(alias.name, defined[node.module.split('.')[1]], path)
