@@ -2,7 +2,7 @@
 
 from fewreleases.errors import BadCosts
 from fewreleases.integers import is_between
-from fewreleases.splits import Cycles, forced_services, joined, longer, owners_of, thrice_forced
+from fewreleases.splits import Cycles, forced_services, grown, joined, owners_of, thrice_forced
 from fewreleases.steps import all_chains
 
 LEAST_COST = 1
@@ -49,15 +49,13 @@ def cheapest_of(services, chains, prices):
     """Return the split set with the least sum of costs, the least one of several."""
     fixed = forced_services(chains)
     cycles = Cycles(services, chains)
-    # The forced services cost the same in every split set, so their costs are left out.
-    least = price_of(cycles.loose, prices)
-    split = joined(fixed, tuple(cycles.loose))
+    # All services hit every cycle, and what is found later costs less.
+    best = (price_of(services, prices), services)
     sets = [()]
     while sets:
-        for some in sets:
-            rank = (price_of(some, prices), joined(fixed, some))
-            if rank < (least, split) and cycles.all_hit(some):
-                least, split = rank
+        missed = [cycles.missed_by(some) for some in sets]
+        splits = [joined(fixed, some) for some, cycle in zip(sets, missed) if cycle is None]
+        best = min([best] + [(price_of(split, prices), split) for split in splits])
         # More services cost more, so what costs too much already need not grow.
-        sets = [some for some in longer(cycles.loose, sets) if price_of(some, prices) <= least]
-    return split
+        sets = [some for some in grown(sets, missed) if price_of(fixed + some, prices) <= best[0]]
+    return best[1]

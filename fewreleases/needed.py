@@ -1,6 +1,6 @@
 """Cycles that show that fewer services than those of a split set with fewest services do not suffice."""
 
-from fewreleases.splits import Cycles, fewest_hitting, hits_all, longer
+from fewreleases.splits import Cycles, fewest_hitting, first_missed, grown
 from fewreleases.steps import all_chains
 from fewreleases.walks import is_round
 
@@ -18,7 +18,7 @@ def shows_needed(system, value):
     if not isinstance(value, tuple) or not all([is_loose_round(cycles, part) for part in value]):
         return False
     many = len(fewest_hitting(cycles)[0])
-    return not can_hit(cycles.loose, many - 1, value)
+    return not can_hit(value, many - 1)
 
 
 def is_loose_round(cycles, value):
@@ -26,11 +26,12 @@ def is_loose_round(cycles, value):
     return is_round(cycles.followers, value) and all([service in cycles.loose for service in value])
 
 
-def can_hit(services, many, cycles):
-    """Return whether so many of the services, or fewer, can hit each of these cycles."""
+def can_hit(cycles, many):
+    """Return whether so many services, or fewer, can hit each of these cycles."""
     sets = [()]
     for size in range(many + 1):
-        if any([hits_all(some, cycles) for some in sets]):
+        missed = [first_missed(some, cycles) for some in sets]
+        if None in missed:
             return True
-        sets = longer(services, sets)
+        sets = grown(sets, missed)
     return False

@@ -6,58 +6,58 @@ serve a whole system and a rollout alike.
 
 from fewreleases.graph import chain_edges, chain_forced, services_without
 from fewreleases.steps import parts_of
-from fewreleases.walks import circling, cycle_among, follower_lists
+from fewreleases.walks import cycle_among, follower_lists
 
 
 class Cycles:
-    """The cycles without a forced service: the services in them, and those cycles that were met so far."""
+    """The cycles without a forced service; those that were met so far are kept."""
 
     def __init__(self, services, chains):
         self.followers = follower_lists(services, chain_edges(chains))
-        # Services in no such cycle can be left out of a set that hits all of them.
-        self.loose = circling(self.followers, services_without(services, forced_services(chains)))
+        self.loose = services_without(services, forced_services(chains))
         self.met = []
 
-    def all_hit(self, some):
-        """Return whether these services hit every cycle; keep a cycle that they do not hit."""
+    def missed_by(self, some):
+        """Return a cycle that these services do not hit, or None."""
         # Cycles that were met before spare most of the searches for another one.
-        if not hits_all(some, self.met):
-            return False
+        known = first_missed(some, self.met)
+        if known is not None:
+            return known
         cycle = cycle_among(self.followers, services_without(self.loose, some))
         if cycle is not None:
             self.met.append(cycle)
-        return cycle is None
+        return cycle
 
 
-def hits_all(some, cycles):
-    """Return whether some services hit each of these cycles."""
+def first_missed(some, cycles):
+    """Return the first of these cycles that some services do not hit, or None."""
     for cycle in cycles:
         if not any([service in cycle for service in some]):
-            return False
-    return True
+            return cycle
+    return None
 
 
-def longer(services, sets):
-    """Return the list of these sets with one more of the services behind the last one, in all ways."""
-    return [some + (service,) for some in sets for service in services if some == () or some[-1] < service]
+def grown(sets, missed):
+    """Return the ascending list of the sets with one more service, each one of the cycle that the set missed.
+
+    A larger set that hits all cycles has a service of that cycle, so no other service need be tried. Sets that
+    missed None do not grow.
+    """
+    pairs = [(some, cycle) for some, cycle in zip(sets, missed) if cycle is not None]
+    return sorted({joined(some, (service,)) for some, cycle in pairs for service in cycle})
 
 
 def fewest_hitting(cycles):
-    """Return the list of the sets of fewest services that hit all cycles.
+    """Return the ascending list of the sets of fewest services that hit all cycles.
 
     The cycles that were met then are not hit by fewer services: each smaller set missed one of them.
     """
     sets = [()]
-    found = hitting(cycles, sets)
-    while not found:
-        sets = longer(cycles.loose, sets)
-        found = hitting(cycles, sets)
-    return found
-
-
-def hitting(cycles, sets):
-    """Return the list of those of the sets that hit all cycles."""
-    return [some for some in sets if cycles.all_hit(some)]
+    missed = [cycles.missed_by(())]
+    while None not in missed:
+        sets = grown(sets, missed)
+        missed = [cycles.missed_by(some) for some in sets]
+    return [some for some, cycle in zip(sets, missed) if cycle is None]
 
 
 def fewest_splits(services, chains):

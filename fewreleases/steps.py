@@ -57,9 +57,8 @@ def all_chains(system):
 
 
 def chains_left(chains, done):
-    """Return the list of what is left of the chains, by a list of the steps that are done."""
-    rest = [tuple([part for part in chain if part[1] not in done]) for chain in chains]
-    return [chain for chain in rest if chain]
+    """Return the list of what is left of each chain with these steps done, perhaps nothing."""
+    return [tuple([part for part in chain if part[1] not in done]) for chain in chains]
 
 
 def steps_by_service(services, chains):

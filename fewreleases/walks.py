@@ -42,23 +42,6 @@ def going_on(followers, services):
     return [start for start in services if any([end in services for end in followers[start]])]
 
 
-def circling(followers, services):
-    """Return the list of the services that are in some cycle of these services."""
-    return [start for start in services if start in reached(followers, services, start)]
-
-
-def reached(followers, services, start):
-    """Return the list of the services to which a walk among these services leads from the start."""
-    found = []
-    ahead = [start]
-    while ahead:
-        at = ahead.pop()
-        fresh = [end for end in followers[at] if end in services and end not in found]
-        found = found + fresh
-        ahead = ahead + fresh
-    return found
-
-
 def order_among(followers, services):
     """Return the tuple of these services, none of them ahead of one from which an edge leads to it.
 

@@ -244,6 +244,66 @@ class SafetyTest(unittest.TestCase):
         self.assertEqual(system, mixed())
 
 
+class LongPlanTest(unittest.TestCase):
+    """A plan of 120 releases: twelve services, forty split channels, twelve fields in each part of each format."""
+
+    def setUp(self):
+        old, new = (tuple(first + letter for letter in TWELVE) for first in ('old', 'new'))
+        self.names = [first + second for first in 'abcd' for second in 'abcdefghij']
+        rows = [(name, TWELVE[at % 12], TWELVE[at * 7 % 12], (old, old, old), (new, new, new))
+                for at, name in enumerate(self.names)]
+        self.system = System(TWELVE, tuple(rows))
+        self.steps = [(name, word) for word in ('widen', 'switch', 'narrow') for name in self.names]
+        # The last widen and the first switch are of one channel here, and so are the last switch and the first narrow.
+        turned = [(name, 'widen') for name in self.names] + [(name, 'switch') for name in self.names[::-1]]
+        self.turned = turned + [(name, 'narrow') for name in self.names]
+
+    def test_safe(self):
+        for order in (self.steps, self.turned):
+            plan = single_steps(self.system, order)
+            self.assertEqual(len(plan), 120)
+            self.assertIs(is_plan(self.system, plan), True)
+            self.assertIsNone(first_fault(self.system, plan))
+            self.assertIs(is_safe(self.system, plan), True)
+            self.assertIsNone(models.first_fault(self.system, plan))
+
+    def test_two_neighbours_exchanged(self):
+        for order, unlike in ((self.steps, ()), (self.turned, (39, 79))):
+            for at in range(119):
+                plan = single_steps(self.system, [*order[:at], order[at + 1], order[at], *order[at + 2:]])
+                self.assertIs(is_plan(self.system, plan), True)
+                fault = (at, order[at][0]) if at in unlike else None
+                self.assertEqual(first_fault(self.system, plan), fault)
+                self.assertIs(is_safe(self.system, plan), fault is None)
+
+    def test_backwards_is_not_safe(self):
+        plan = single_steps(self.system, self.steps[::-1])
+        self.assertIs(is_plan(self.system, plan), True)
+        self.assertEqual(first_fault(self.system, plan), (0, self.names[-1]))
+        self.assertIs(is_safe(exchanged(self.system), backwards(self.system, single_steps(self.system, self.steps))), True)
+
+    def test_a_step_missing(self):
+        plan = single_steps(self.system, self.steps)
+        for at in range(120):
+            self.assertIs(is_plan(self.system, plan[:at] + plan[at + 1:]), False)
+
+    def test_a_step_twice(self):
+        plan = single_steps(self.system, self.steps)
+        for at in range(120):
+            self.assertIs(is_plan(self.system, plan + plan[at:at + 1]), False)
+            self.assertIs(is_plan(self.system, plan[:at] + plan[at:at + 1] + plan[at:]), False)
+            # One step twice, and another one missing.
+            self.assertIs(is_plan(self.system, plan[:at] + plan[at - 1:at] + plan[at + 1:]), False)
+
+    def test_all_steps_of_a_service_at_once(self):
+        owners = models.owners(self.system)
+        plan = tuple((service, tuple(sorted(step for step in owners if owners[step] == service)))
+                     for service in sorted(set(owners.values())))
+        self.assertIs(is_plan(self.system, plan), True)
+        self.assertEqual(first_fault(self.system, plan), models.first_fault(self.system, plan))
+        self.assertIs(is_safe(self.system, plan), False)
+
+
 class BackwardsTest(unittest.TestCase):
 
     def check(self, system, plan):
